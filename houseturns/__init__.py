@@ -1,0 +1,1 @@
+"""The books of a clearing house."""
