@@ -10,13 +10,11 @@ from houseturns.refusals import (
     UNFIT,
     UNKNOWN,
 )
-from houseturns.runs import assign
-
-MOST_EXERCISED = 1000
+from houseturns.runs import MOST_ASSIGNED, assign
 
 
 def exercise_refusal(house, a, c, n):
-    if not 1 <= n <= MOST_EXERCISED:
+    if not 1 <= n <= MOST_ASSIGNED:
         return OUT_OF_RANGE
     if not (house.has_account(a) and house.has_contract(c)):
         return UNKNOWN

@@ -48,5 +48,6 @@ def new_contract(house, kind, u, strike, multiple, expiry):
     refusal = contract_refusal(house, kind, u, strike, multiple, expiry)
     if refusal != ACCEPTED:
         return [refusal]
-    house.contracts.append(Contract(kind, u, strike, multiple, expiry))
-    return [len(house.contracts)]
+    number = len(house.contracts) + 1
+    house.contracts.append(Contract(number, kind, u, strike, multiple, expiry))
+    return [number]

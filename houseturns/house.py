@@ -11,7 +11,8 @@ MOST_HELD = 100000
 
 
 class Contract:
-    def __init__(self, kind, underlying, strike, multiple, expiry):
+    def __init__(self, number, kind, underlying, strike, multiple, expiry):
+        self.number = number
         self.kind = kind
         self.underlying = underlying
         self.strike = strike

@@ -1,5 +1,8 @@
 """The runs of contracts: to whom the lots that are exercised are assigned."""
 
+# By one call.
+MOST_ASSIGNED = 1000
+
 
 class Run:
     # The base tells the lots of each account that is short, by rising accounts:
@@ -60,3 +63,15 @@ def assign(run, n):
         if lots > 0:
             got[account] = lots
     return got
+
+
+def copied_run(run):
+    copied = Run(dict(run.base))
+    copied.assigned = dict(run.assigned)
+    copied.count = run.count
+    return copied
+
+
+# Answers what assign would answer, and leaves the run as it is.
+def would_be_assigned(run, n):
+    return assign(copied_run(run), n)

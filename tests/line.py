@@ -47,6 +47,38 @@ def turn(*prices):
     return [8, len(prices), *prices]
 
 
+def position(a, c):
+    return [9, a, c]
+
+
+def positions(a):
+    return [10, a]
+
+
+def cash(a):
+    return [11, a]
+
+
+def run(c):
+    return [12, c]
+
+
+def would_assign(c, n):
+    return [13, c, n]
+
+
+def open_lots(c):
+    return [14, c]
+
+
+def trades():
+    return [15]
+
+
+def told():
+    return [16]
+
+
 def accounts(n):
     return [account() for _ in range(n)]
 
@@ -105,15 +137,19 @@ class Line:
 
 
 class LineTest(unittest.TestCase):
-    def assert_refused(self, line, call, refusal, after=()):
-        """The call is refused with that number alone, and later calls answer as if it had not been called."""
+    def assert_told(self, line, call, answer, after=()):
+        """The call is answered so, and later calls answer as if it had not been called."""
         before = kept(line.house)
         calls = list(line.calls)
-        self.assertEqual(parted(answer_calls(line.house, call)), [[refusal]], call)
+        self.assertEqual(parted(answer_calls(line.house, call)), [answer], call)
         self.assertEqual(kept(line.house), before, call)
         with_it = ask(*calls, call, *after)
         without = ask(*calls, *after)
         self.assertEqual(with_it[:len(calls)] + with_it[len(calls) + 1:], without, call)
+
+    def assert_refused(self, line, call, refusal, after=()):
+        """The call is refused with that number alone, and later calls answer as if it had not been called."""
+        self.assert_told(line, call, [refusal], after)
 
     def assert_all_refused(self, line, calls, refusal):
         for call in calls:
